@@ -1,0 +1,78 @@
+"""The interface: each name is defined, with its arguments, in its own file; modules use those above them."""
+
+import ast
+import importlib
+import inspect
+import unittest
+from pathlib import Path
+
+PACKAGE = Path(__file__).resolve().parent.parent / "eithersums"
+
+ERRORS = {
+    "SumError": None, "Broken": "index shown", "Fails": "setting", "HasModel": "bits", "NoCommand": "",
+    "NoModel": "paper", "NoText": "line", "NotApart": "one other", "NotFull": "lot", "NotKept": "index", "NotTight": "",
+    "NotWhole": "bits", "Nothing": "", "TooMany": "most", "Wrong": "place",
+}
+FUNCTIONS = {
+    "forms": {
+        "is_integer": "thing", "is_sum": "many thing", "is_row": "many thing", "is_line": "many thing",
+        "is_clause": "many thing", "is_book": "thing", "are_bits": "many thing", "is_flat": "many thing",
+        "is_lot": "book thing", "is_setting": "book thing",
+    },
+    "sums": {
+        "together": "sums", "worth_of": "row bits", "rank_of": "sums", "sum_by": "sums row", "dependent_lot": "sums",
+        "independent_among": "sums",
+    },
+    "books": {
+        "holds": "line bits", "keeps": "clause bits", "missed": "book bits", "models_of": "book",
+        "clauses_of": "book lot", "with_clause": "book clause", "without_clause": "book index",
+        "renumbered": "book order", "exchanged": "book unknown other", "led_back": "order bits",
+        "exchanged_bits": "bits unknown other",
+    },
+}
+ORDER = ["errors", "forms", "sums", "books", "texts", "reader", "flats", "misses"]
+
+
+def defined_in(module, kind):
+    """Return the names that a file itself defines at its top."""
+    tree = ast.parse((PACKAGE / f"{module}.py").read_text(encoding="utf-8"))
+    return [node.name for node in tree.body if isinstance(node, kind)]
+
+
+def imported_by(module):
+    """Return the modules of the package from which a file imports."""
+    tree = ast.parse((PACKAGE / f"{module}.py").read_text(encoding="utf-8"))
+    froms = [node.module for node in tree.body if isinstance(node, ast.ImportFrom)]
+    return [name.split(".")[1] for name in froms if name.startswith("eithersums.")]
+
+
+class TestInterface(unittest.TestCase):
+    def test_functions(self):
+        for module, wanted in FUNCTIONS.items():
+            loaded = importlib.import_module(f"eithersums.{module}")
+            names = defined_in(module, ast.FunctionDef)
+            for name, arguments in wanted.items():
+                self.assertIn(name, names, module)
+                found = list(inspect.signature(getattr(loaded, name)).parameters)
+                self.assertEqual(found, arguments.split(), (module, name))
+
+    def test_errors(self):
+        loaded = importlib.import_module("eithersums.errors")
+        names = defined_in("errors", ast.ClassDef)
+        for name, arguments in ERRORS.items():
+            self.assertIn(name, names)
+            if arguments is not None:
+                found = list(inspect.signature(getattr(loaded, name)).parameters)
+                self.assertEqual(found, arguments.split(), name)
+
+    def test_order_of_modules(self):
+        for place, module in enumerate(ORDER):
+            if (PACKAGE / f"{module}.py").exists():
+                self.assertLessEqual(set(imported_by(module)), set(ORDER[:place]), module)
+
+    def test_init_is_empty(self):
+        self.assertEqual((PACKAGE / "__init__.py").read_text(encoding="utf-8"), "")
+
+
+if __name__ == "__main__":
+    unittest.main()
