@@ -18,7 +18,7 @@ def nested(depth, inner, kind):
 
 
 def any_values():
-    """Return values of all kinds that [4] names; none of them is of a form of the program but the first few."""
+    """Return values of all kinds that [4] names, deep and wide ones too; just a few are of a form of [2]."""
     plain = [None, True, False, 0, 1, 2, -1, HUGE, -HUGE, "", "0", "unknowns 1", "a # b\n\n ~", "0" * 3000]
     owned = [SumError(), Wrong(0), Broken(0, [1]), NotTight()]
     empty = [(), [], {}]

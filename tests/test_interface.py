@@ -29,6 +29,19 @@ FUNCTIONS = {
         "renumbered": "book order", "exchanged": "book unknown other", "led_back": "order bits",
         "exchanged_bits": "bits unknown other",
     },
+    "texts": {
+        "show_line": "line", "show_clause": "clause", "show_book": "book", "show_flat": "flat", "show_paper": "paper",
+    },
+    "reader": {"read_book": "text", "read_paper": "book text"},
+    "flats": {
+        "flat_of": "lines", "is_in": "flat bits", "lies_in": "one other", "meet": "one other", "reduced": "flat row",
+        "told_on": "flat row", "halves": "flat row", "bits_many": "many flat", "bits_in": "many flat",
+        "least_flat": "some", "all_flats": "many",
+    },
+    "misses": {
+        "miss_of": "clause", "clause_for": "flat", "follows_from": "one other", "says_same": "one other",
+        "misses_of": "book",
+    },
 }
 ORDER = ["errors", "forms", "sums", "books", "texts", "reader", "flats", "misses"]
 
@@ -67,8 +80,7 @@ class TestInterface(unittest.TestCase):
 
     def test_order_of_modules(self):
         for place, module in enumerate(ORDER):
-            if (PACKAGE / f"{module}.py").exists():
-                self.assertLessEqual(set(imported_by(module)), set(ORDER[:place]), module)
+            self.assertLessEqual(set(imported_by(module)), set(ORDER[:place]), module)
 
     def test_init_is_empty(self):
         self.assertEqual((PACKAGE / "__init__.py").read_text(encoding="utf-8"), "")
