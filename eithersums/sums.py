@@ -25,9 +25,7 @@ def rank_of(sums):
 
 def sum_by(sums, row):
     """Return the indexes of sums that are a SUM together, None if it is not OF them."""
-    basis, _ = _eliminated(sums)
-    rest, used = _rest(basis, row, ())
-    return None if rest else used
+    return used_by(basis_of(sums), row)
 
 
 def dependent_lot(sums):
@@ -42,6 +40,18 @@ def independent_among(sums):
     """Return the indexes of the sums that are not OF the ones ahead of them."""
     _, lots = _eliminated(sums)
     return [index for index in range(len(sums)) if index not in lots]
+
+
+def basis_of(sums):
+    """Return a basis of sums, by which used_by tells the same as sum_by of them."""
+    basis, _ = _eliminated(sums)
+    return basis
+
+
+def used_by(basis, row):
+    """Return the indexes of the sums behind a basis that are a SUM together, None if it is not OF them."""
+    rest, used = _rest(basis, row, ())
+    return None if rest else used
 
 
 def _eliminated(sums):

@@ -5,6 +5,7 @@ import random
 from itertools import combinations, product
 
 from eithersums.errors import Broken, NotTight, SumError, Wrong
+from eithersums.flats import halves
 
 HUGE = 10 ** 39
 
@@ -150,3 +151,106 @@ def some_book(seed, many, count, most):
     """Return a BOOK of so many unknowns and clauses, each with at most so many lines."""
     source = chance(seed)
     return (many, tuple([some_clause(source, many, most) for _ in range(count)]))
+
+
+def plain_models(book):
+    """Return all bits that keep all clauses of a book."""
+    return [bits for bits in all_bits(book[0]) if all(plain_keeps(clause, bits) for clause in book[1])]
+
+
+def plain_missed(many, clause):
+    """Return all bits that a clause misses."""
+    return [bits for bits in all_bits(many) if not plain_keeps(clause, bits)]
+
+
+def plain_rank(sums):
+    """Return the rank of sums: what some of them are together are 2 ** rank sums."""
+    found = {()}
+    for row in sums:
+        found |= {plain_together([row, other]) for other in found}
+    return len(found).bit_length() - 1
+
+
+def all_lots(count):
+    """Return all LOTS of so many clauses."""
+    return [lot for size in range(count + 1) for lot in combinations(range(count), size)]
+
+
+def is_strict_integer(thing):
+    return type(thing) is int
+
+
+def is_strict_bit(thing):
+    return type(thing) is int and thing in (0, 1)
+
+
+def is_strict_row(many, thing):
+    """Tell whether a value is a ROW, by its words."""
+    if type(thing) is not tuple or not thing or not all(is_strict_integer(part) for part in thing):
+        return False
+    return list(thing) == sorted(set(thing)) and thing[0] >= 0 and thing[-1] < many
+
+
+def is_strict_flat(many, thing):
+    """Tell whether a value is a FLAT, by its words."""
+    if type(thing) is not tuple or not all(type(line) is tuple and len(line) == 2 for line in thing):
+        return False
+    if not all(is_strict_row(many, row) and is_strict_bit(bit) for row, bit in thing):
+        return False
+    return list(thing) == sorted(set(thing)) and is_plain_flat(thing)
+
+
+def is_strict_lot(book, thing):
+    """Tell whether a value is a LOT of a book, by its words."""
+    return thing == () and type(thing) is tuple or is_strict_row(len(book[1]), thing)
+
+
+def together_of(lines):
+    """Return the line that lines are together."""
+    return (plain_together([row for row, _ in lines]), sum(bit for _, bit in lines) % 2)
+
+
+def dressed(source, flat, most):
+    """Return a CLAUSE, with some sums of the flat's lines beside others, whose miss is a flat of at most so many lines."""
+    lines = list(flat)
+    for _ in range(2 * len(flat)):
+        one, other = source.randrange(len(lines)), source.randrange(len(lines))
+        if one != other:
+            lines[one] = together_of([lines[one], lines[other]])
+    for _ in range(20):
+        if len(flat) > 1 and len(set(lines)) < most:
+            lines.append(together_of(source.sample(lines[:len(flat)], source.randrange(2, len(flat) + 1))))
+    return tuple(sorted(set([(row, 1 - bit) for row, bit in lines])))
+
+
+def parted_flats(seed, many, count):
+    """Return so many flats, of at most six lines each, such that each bits are in just one of them."""
+    source = chance(seed)
+    flats = [()]
+    while len(flats) < count:
+        flat = source.choice([one for one in flats if len(one) < min(6, many)])
+        cut = halves(flat, some_row(source, many))
+        if cut is not None:
+            flats.remove(flat)
+            flats.extend(cut)
+    return flats
+
+
+def whole_book(seed, many, count):
+    """Return a BOOK of so many clauses, of at most six lines each: of each bits just one clause misses them."""
+    source = chance(seed)
+    clauses = [dressed(source, flat, 6) for flat in parted_flats(seed, many, count)]
+    source.shuffle(clauses)
+    return (many, tuple(clauses))
+
+
+def crowded_book(seed, many, count):
+    """Return a BOOK of so many clauses without a model, some of whose misses meet."""
+    source = chance(seed)
+    flats = parted_flats(seed, many, min(count, 1 << (many - 1)) * 2 // 3)
+    wider = [tuple([line for line in flat if source.random() < 0.9 or len(flat) < 3]) for flat in flats]
+    clauses = [dressed(source, flat, 6) for flat in wider]
+    while len(clauses) < count:
+        clauses.append(some_clause(source, many, 6))
+    source.shuffle(clauses)
+    return (many, tuple(clauses))

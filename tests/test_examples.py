@@ -43,6 +43,54 @@ STAGE_2 = r"""
 [True, True, False]
 """
 
+STAGE_3 = r"""
+>>> from eithersums.papers import is_paper, joined, leant_clauses, lifted, missed_by, refutes, shortened, spread
+>>> from eithersums.steps import cut_by, lies_in_both
+>>> zero, one = (((0,), 0),), (((0,), 1),)
+>>> [cut_by((), zero, one), cut_by(zero, zero, one), cut_by((), zero, (((1,), 1),)), lies_in_both((), zero, one)]
+[(0,), (), None, True]
+>>> cut_by((((0, 1), 0),), (((0,), 0), ((1,), 0)), one)
+(1,)
+>>> book = (2, ((((0,), 0), ((1,), 0)), (((0, 1), 0),), (((0,), 1),)))
+>>> paper = ((one, ("clause", 0)), ((((0,), 1), ((1,), 1)), ("clause", 0)), ((((0, 1), 1),), ("clause", 1)))
+>>> [is_paper(book, paper), is_paper(book, paper[1:])]
+[False, True]
+>>> paper = paper[1:] + ((one, ("steps", 0, 1)), (zero, ("clause", 2)), ((), ("steps", 2, 3)))
+>>> [refutes(book, paper), leant_clauses(paper), missed_by(book, paper, (1, 0)), spread(book, paper)]
+[True, (0, 1, 2), 1, [(0,), (1,), (0, 1), (2,), (0, 1, 2)]]
+>>> small = shortened(paper[:2] + paper[3:4])
+>>> [small, lifted(small, (0, 1, 2)) == small, joined(paper[:3], small, ())[3:]]
+[(((((0,), 0),), ('clause', 2)),), True, (((((0,), 0),), ('clause', 2)), ((), ('steps', 2, 3)))]
+"""
+
+STAGE_4 = r"""
+>>> from eithersums.cores import all_cores, core_of, core_paper, is_core, least_cores, needed_clauses
+>>> from eithersums.papers import refutes
+>>> from eithersums.solver import is_answer, least_model, model_with, models_many, solve
+>>> book = (2, ((((0,), 1), ((1,), 1)), (((0,), 0),)))
+>>> [least_model(book), models_many(book), solve(book), model_with(book, (((0, 1), 0),))]
+[(0, 1), 1, ('model', (0, 1)), None]
+>>> more = (2, book[1] + ((((0, 1), 0),), (((1,), 0),)))
+>>> [solve(more)[0], refutes(more, solve(more)[1]), is_answer(more, ("model", (0, 1)))]
+['paper', True, False]
+>>> [all_cores(more), least_cores(more), needed_clauses(more), is_core(more, (0, 1, 2))]
+[[(0, 1, 2), (0, 1, 3), (0, 2, 3)], [(0, 1, 2), (0, 1, 3), (0, 2, 3)], (0,), True]
+>>> refutes(more, core_paper(more, (0, 1, 3)))
+True
+>>> [core_of(book), solve((0, ())), all_cores((1, ((), (((0,), 0), ((0,), 1)))))]
+[None, ('model', ()), [(0,)]]
+"""
+
+STAGE_5 = r"""
+>>> from eithersums.beyond import beyond_of, greatest_beyond, lots_beyond, rank_of_lot
+>>> a, b, c = ((0,), 1), ((1,), 0), ((0, 1), 1)
+>>> book = (3, ((a,), (((0,), 0), ((2,), 1)), (a, b), (c,)))
+>>> [rank_of_lot(book, (0, 2, 3)), beyond_of(book, (0, 2, 3)), beyond_of(book, (1,)), greatest_beyond(book)]
+[2, 1, -1, 1]
+>>> [lots_beyond(book), beyond_of((0, ((),)), (0,))]
+[[(0, 1, 2, 3), (0, 2, 3)], 1]
+"""
+
 
 class TestExamples(unittest.TestCase):
     def check(self, text):
@@ -58,6 +106,15 @@ class TestExamples(unittest.TestCase):
 
     def test_stage_2(self):
         self.check(STAGE_2)
+
+    def test_stage_3(self):
+        self.check(STAGE_3)
+
+    def test_stage_4(self):
+        self.check(STAGE_4)
+
+    def test_stage_5(self):
+        self.check(STAGE_5)
 
     def test_readme(self):
         self.check(README.read_text(encoding="utf-8"))

@@ -42,8 +42,25 @@ FUNCTIONS = {
         "miss_of": "clause", "clause_for": "flat", "follows_from": "one other", "says_same": "one other",
         "misses_of": "book",
     },
+    "steps": {"lies_in_both": "flat one other", "cut_by": "flat one other"},
+    "papers": {
+        "is_paper": "book thing", "refutes": "book thing", "shortened": "paper", "leant_clauses": "paper",
+        "lifted": "paper lot", "joined": "one other flat", "spread": "book paper", "missed_by": "book paper bits",
+    },
+    "solver": {
+        "solve": "book", "is_answer": "book thing", "least_model": "book", "model_with": "book lines",
+        "models_many": "book",
+    },
+    "cores": {
+        "core_of": "book", "is_core": "book thing", "needed_clauses": "book", "all_cores": "book",
+        "least_cores": "book", "core_paper": "book core",
+    },
+    "beyond": {
+        "rank_of_lot": "book lot", "beyond_of": "book lot", "greatest_beyond": "book", "lots_beyond": "book",
+    },
 }
-ORDER = ["errors", "forms", "sums", "books", "texts", "reader", "flats", "misses"]
+ORDER = ["errors", "forms", "sums", "books", "texts", "reader", "flats", "misses", "steps", "papers", "solver", "cores",
+         "beyond"]
 
 
 def defined_in(module, kind):
