@@ -4,7 +4,7 @@ import copy
 import random
 from itertools import combinations, product
 
-from eithersums.errors import Broken, NotTight, SumError, Wrong
+from eithersums.errors import Broken, HasModel, NotTight, SumError, TooMany, Wrong
 from eithersums.flats import halves
 
 HUGE = 10 ** 39
@@ -254,3 +254,39 @@ def crowded_book(seed, many, count):
         clauses.append(some_clause(source, many, 6))
     source.shuffle(clauses)
     return (many, tuple(clauses))
+
+
+def small_books_without():
+    """Return books without a model, of at most four unknowns, some with clauses twice or that never miss."""
+    ever = (((0,), 0), ((0,), 1))
+    found = [(0, ((),)), (0, ((), ())), (1, ((),)), (1, ((((0,), 0),), (((0,), 1),))), (3, (ever, ())), (4, (ever, ()))]
+    for seed in range(14):
+        many = 1 + seed % 4
+        book = whole_book(seed, many, min(2 + seed, 1 << many))
+        found += [book, (many, book[1] + (book[1][0], ever))]
+        source = chance(seed)
+        found.append((many, tuple([some_clause(source, many, 3) for _ in range(3)]) + book[1]))
+    return found
+
+
+def books_with_a_model():
+    """Return books with a model: of a few unknowns, of more than four, at the bounds, without clauses."""
+    return [(0, ()), (1, ()), (4, ()), (2, ((((0,), 1),),)), (5, ((((4,), 0),),)), (12, ()), great_book(3)]
+
+
+def books_of_five_without():
+    """Return books without a model that have just more than four unknowns, and many more."""
+    return [(5, ((),)), (5, ((((0,), 0),), (((0,), 1),))), (12, ((),)), whole_book(5, 5, 9), whole_book(6, 12, 24)]
+
+
+def demands_no_model(test, function, *args):
+    """Check that a function of a book raises HasModel(bits), then TooMany(4), whatever else is handed in."""
+    for book in books_with_a_model():
+        with test.assertRaises(HasModel) as caught:
+            function(book, *args)
+        test.assertTrue(len(caught.exception.bits) == book[0])
+        test.assertTrue(all(plain_keeps(clause, caught.exception.bits) for clause in book[1]))
+    for book in books_of_five_without():
+        with test.assertRaises(TooMany) as caught:
+            function(book, *args)
+        same(test, caught.exception.most, 4)

@@ -83,12 +83,50 @@ True
 
 STAGE_5 = r"""
 >>> from eithersums.beyond import beyond_of, greatest_beyond, lots_beyond, rank_of_lot
+>>> from eithersums.heart import deciding_paper, heart, heart_book, is_deciding, led_on
 >>> a, b, c = ((0,), 1), ((1,), 0), ((0, 1), 1)
 >>> book = (3, ((a,), (((0,), 0), ((2,), 1)), (a, b), (c,)))
 >>> [rank_of_lot(book, (0, 2, 3)), beyond_of(book, (0, 2, 3)), beyond_of(book, (1,)), greatest_beyond(book)]
 [2, 1, -1, 1]
->>> [lots_beyond(book), beyond_of((0, ((),)), (0,))]
-[[(0, 1, 2, 3), (0, 2, 3)], 1]
+>>> [lots_beyond(book), heart(book), is_deciding(book, ((0, 2, 3), {1: 1})), is_deciding(book, ((0, 2, 3), {1: 0}))]
+[[(0, 1, 2, 3), (0, 2, 3)], (0, 2, 3), True, False]
+>>> [deciding_paper(book), led_on(book, (1, 0, 0)), heart_book(book)[1]]
+[((0, 2, 3), {1: 1}), (1, 0, 1), ((((0,), 1),), (((0,), 1), ((1,), 0)), (((0, 1), 1),))]
+>>> [heart((2, ((a,), (b,)))), deciding_paper((2, ((a,), (b,)))), heart((0, ((),))), beyond_of((0, ((),)), (0,))]
+[(), ((), {0: 0, 1: 0}), (0,), 1]
+"""
+
+STAGE_6 = r"""
+>>> from eithersums.asks import best_tree, fewest_asks, finds, height_of, leaves_of, mean_asks, mean_of, paper_by
+>>> from eithersums.liars import answers_by, is_liar, liar_of
+>>> from eithersums.papers import refutes
+>>> book = (2, ((((0,), 1), ((1,), 1)), (((0,), 0),), (((0,), 1), ((1,), 0))))
+>>> tree = ("ask", (0,), ("ask", (1,), ("end", 0), ("end", 2)), ("end", 1))
+>>> leaves_of(tree)
+[(0, (((0,), 0), ((1,), 0))), (2, (((0,), 0), ((1,), 1))), (1, (((0,), 1),))]
+>>> [finds(book, tree), finds(book, ("end", 1)), fewest_asks(book), height_of(best_tree(book))]
+[True, False, 2, 2]
+>>> [mean_of(book, tree), mean_asks(book), refutes(book, paper_by(book, tree))]
+[(3, 2), (3, 2), True]
+>>> liar = {(): 2, (((0,), 0),): 1, (((0, 1), 0),): 1, (((1,), 0),): 1}
+>>> [is_liar(book, liar), is_liar(book, {(): 3}), liar_of(book)[()]]
+[True, False, 2]
+>>> [answers_by(book, liar, ((0, 1),)), answers_by(book, liar, ())]
+[((0,), (((0, 1), 0),)), ((), ())]
+"""
+
+# Of stage 7 the lines that concern eithersums.apart.
+STAGE_7 = r"""
+>>> from eithersums.apart import left_bits, left_in, meeting, models_from, models_apart
+>>> one, two, three = (((0,), 0),), (((0,), 1), ((1, 2), 0)), (((0,), 1), ((1, 2), 1))
+>>> [meeting((3, (one, (((0, 1), 0),)))), models_apart((3, (one, two))), left_bits((3, (one, two)))]
+[(0, 1), 2, (0, 0, 0)]
+>>> [left_in((3, (one, two)), (((1,), 1),)), models_from((3, (one, two)), (), 5)]
+[1, [(0, 0, 0), (0, 1, 1)]]
+>>> a, b, c = (((0,), 0), ((1,), 1)), (((1,), 0), ((2,), 1)), (((0,), 1), ((2,), 0))
+>>> odd = (3, (a, b, c, (((0,), 0), ((1,), 0), ((2,), 0)), (((0,), 1), ((1,), 1), ((2,), 1))))
+>>> models_apart(odd)
+0
 """
 
 
@@ -115,6 +153,12 @@ class TestExamples(unittest.TestCase):
 
     def test_stage_5(self):
         self.check(STAGE_5)
+
+    def test_stage_6(self):
+        self.check(STAGE_6)
+
+    def test_stage_7(self):
+        self.check(STAGE_7)
 
     def test_readme(self):
         self.check(README.read_text(encoding="utf-8"))

@@ -58,9 +58,22 @@ FUNCTIONS = {
     "beyond": {
         "rank_of_lot": "book lot", "beyond_of": "book lot", "greatest_beyond": "book", "lots_beyond": "book",
     },
+    "heart": {
+        "heart": "book", "is_deciding": "book thing", "deciding_paper": "book", "led_on": "book bits",
+        "heart_book": "book",
+    },
+    "asks": {
+        "height_of": "tree", "fewest_asks": "book", "leaves_of": "tree", "finds": "book thing", "best_tree": "book",
+        "mean_tree": "book", "mean_of": "book tree", "mean_asks": "book", "paper_by": "book tree",
+    },
+    "liars": {"liar_of": "book", "is_liar": "book thing", "answers_by": "book liar rows"},
+    "apart": {
+        "meeting": "book", "models_apart": "book", "left_in": "book flat", "left_bits": "book",
+        "models_from": "book flat most",
+    },
 }
 ORDER = ["errors", "forms", "sums", "books", "texts", "reader", "flats", "misses", "steps", "papers", "solver", "cores",
-         "beyond"]
+         "beyond", "heart", "asks", "liars", "apart"]
 
 
 def defined_in(module, kind):
