@@ -4,7 +4,7 @@ from math import gcd
 
 from eithersums.errors import HasModel, TooMany
 from eithersums.flats import all_flats, bits_many, flat_of, halves, lies_in
-from eithersums.forms import is_integer, is_row
+from eithersums.forms import is_index, is_pair, is_row
 from eithersums.misses import misses_of
 from eithersums.solver import least_model
 
@@ -130,9 +130,7 @@ def _is_tree(book, thing):
 
 
 def _is_end(book, thing):
-    if not isinstance(thing, tuple) or len(thing) != 2 or thing[0] != "end":
-        return False
-    return is_integer(thing[1]) and 0 <= thing[1] < len(book[1])
+    return is_pair(thing) and thing[0] == "end" and is_index(len(book[1]), thing[1])
 
 
 def _parts_reached(tree):

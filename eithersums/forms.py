@@ -8,9 +8,7 @@ def is_integer(thing):
 
 def is_sum(many, thing):
     """Tell whether a value is a SUM of so many unknowns."""
-    if not isinstance(thing, tuple) or not all([is_integer(part) for part in thing]):
-        return False
-    return all([0 <= part < many for part in thing]) and _is_ascending(thing)
+    return isinstance(thing, tuple) and all([is_index(many, part) for part in thing]) and _is_ascending(thing)
 
 
 def is_row(many, thing):
@@ -20,7 +18,7 @@ def is_row(many, thing):
 
 def is_line(many, thing):
     """Tell whether a value is a LINE of so many unknowns."""
-    return _is_pair(thing) and is_row(many, thing[0]) and _is_bit(thing[1])
+    return is_pair(thing) and is_row(many, thing[0]) and _is_bit(thing[1])
 
 
 def is_clause(many, thing):
@@ -32,7 +30,7 @@ def is_clause(many, thing):
 
 def is_book(thing):
     """Tell whether a value is a BOOK, of whatever size."""
-    if not _is_pair(thing) or not is_integer(thing[0]) or thing[0] < 0:
+    if not is_pair(thing) or not is_integer(thing[0]) or thing[0] < 0:
         return False
     return isinstance(thing[1], tuple) and all([is_clause(thing[0], part) for part in thing[1]])
 
@@ -62,15 +60,21 @@ def is_setting(book, thing):
     clauses = book[1]
     if not isinstance(thing, tuple) or len(thing) != len(clauses):
         return False
-    return all([is_integer(part) and 0 <= part < len(clause) for part, clause in zip(thing, clauses)])
+    return all([is_index(len(clause), part) for part, clause in zip(thing, clauses)])
+
+
+def is_pair(thing):
+    """Tell whether a value is a tuple of two."""
+    return isinstance(thing, tuple) and len(thing) == 2
+
+
+def is_index(count, thing):
+    """Tell whether a value is the index of one of so many things."""
+    return is_integer(thing) and 0 <= thing < count
 
 
 def _is_bit(thing):
-    return is_integer(thing) and thing in (0, 1)
-
-
-def _is_pair(thing):
-    return isinstance(thing, tuple) and len(thing) == 2
+    return is_index(2, thing)
 
 
 def _is_ascending(things):

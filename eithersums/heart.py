@@ -4,7 +4,7 @@ from eithersums.beyond import clauses_left, greatest_choice, owners_of, reached_
 from eithersums.books import clauses_of, keeps
 from eithersums.errors import NotKept
 from eithersums.flats import flat_of
-from eithersums.forms import is_integer, is_lot
+from eithersums.forms import is_index, is_lot, is_pair
 from eithersums.sums import rank_of, worth_of
 
 
@@ -15,7 +15,7 @@ def heart(book):
 
 def is_deciding(book, thing):
     """Tell whether a value is a DECIDING PAPER of a book."""
-    if not isinstance(thing, tuple) or len(thing) != 2:
+    if not is_pair(thing):
         return False
     lot, chosen = thing
     if not is_lot(book, lot) or not _are_lines_beside(book, lot, chosen):
@@ -65,10 +65,6 @@ def _are_lines_beside(book, lot, chosen):
     if not isinstance(chosen, dict) or len(chosen) != len(book[1]) - len(lot):
         return False
     for clause, line in chosen.items():
-        if not _is_index(len(book[1]), clause) or clause in lot or not _is_index(len(book[1][clause]), line):
+        if not is_index(len(book[1]), clause) or clause in lot or not is_index(len(book[1][clause]), line):
             return False
     return True
-
-
-def _is_index(count, thing):
-    return is_integer(thing) and 0 <= thing < count

@@ -1,7 +1,7 @@
 """Papers: steps that show that some flat lies in the misses of a book's clauses."""
 
 from eithersums.flats import is_in, lies_in
-from eithersums.forms import is_flat, is_integer
+from eithersums.forms import is_flat, is_index, is_pair
 from eithersums.misses import misses_of
 from eithersums.steps import lies_in_both
 
@@ -12,7 +12,7 @@ def is_paper(book, thing):
         return False
     misses = misses_of(book)
     for at, step in enumerate(thing):
-        if not _is_pair(step) or not is_flat(book[0], step[0]):
+        if not is_pair(step) or not is_flat(book[0], step[0]):
             return False
         if not _is_shown(misses, thing[:at], step[0], step[1]):
             return False
@@ -65,10 +65,6 @@ def missed_by(book, paper, bits):
     return reason[1]
 
 
-def _is_pair(thing):
-    return isinstance(thing, tuple) and len(thing) == 2
-
-
 def _is_shown(misses, ahead, flat, reason):
     """Tell whether a value is a reason that shows a flat, of clauses with these misses, behind these steps."""
     if not isinstance(reason, tuple):
@@ -82,7 +78,7 @@ def _is_shown(misses, ahead, flat, reason):
 
 def _are_indexes(count, bound, things):
     """Tell whether values are just so many indexes of so many things."""
-    return len(things) == count and all([is_integer(thing) and 0 <= thing < bound for thing in things])
+    return len(things) == count and all([is_index(bound, thing) for thing in things])
 
 
 def _lies_in_miss(flat, miss):

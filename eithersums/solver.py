@@ -6,7 +6,7 @@ bits is an integer with the digit 1 << index for each clause that misses them: i
 
 from eithersums.books import missed
 from eithersums.flats import flat_of, halves, meet, reduced, told_on
-from eithersums.forms import are_bits
+from eithersums.forms import are_bits, is_pair
 from eithersums.misses import misses_of
 from eithersums.papers import refutes
 
@@ -19,7 +19,7 @@ def solve(book):
 
 def is_answer(book, thing):
     """Tell whether a value is an ANSWER of a book."""
-    if not isinstance(thing, tuple) or len(thing) != 2:
+    if not is_pair(thing):
         return False
     if thing[0] == "model":
         return are_bits(book[0], thing[1]) and missed(book, thing[1]) == []
