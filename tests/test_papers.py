@@ -267,6 +267,15 @@ class TestWithPapers(unittest.TestCase):
         spread(BOOK, PAPER).clear()
         same(self, spread(BOOK, PAPER), [(0,), (1,), (0, 1), (2,), (0, 1, 2)])
 
+    def test_clauses_far_apart(self):
+        book = (1, ((),) + (UNIT,) * 7 + (ZERO,) * 16)
+        for one, other in ((8, 1), (1, 8), (7, 9), (3, 11), (16, 5), (23, 7)):
+            flats = [ZERO if book[1][index] == UNIT else UNIT for index in (one, other)]
+            paper = ((flats[0], ("clause", one)), (flats[1], ("clause", other)), ((), ("steps", 0, 1)))
+            wanted = (min(one, other), max(one, other))
+            same(self, [refutes(book, paper), leant_clauses(paper)], [True, wanted])
+            same(self, spread(book, paper), [(one,), (other,), wanted])
+
     def test_missed_by(self):
         for book, paper in papers():
             for bits in BITS[book[0]][paper[-1][0]]:
