@@ -116,21 +116,26 @@ def rows_untold(many, flat):
     return rows[1:]
 
 
+def is_end(book, thing):
+    """Tell whether a value is an end of a TREE of a book."""
+    return is_pair(thing) and thing[0] == "end" and is_index(len(book[1]), thing[1])
+
+
+def is_ask(book, thing):
+    """Tell whether a value is an ask of a TREE of a book, whatever its two trees are."""
+    return isinstance(thing, tuple) and len(thing) == 4 and thing[0] == "ask" and is_row(book[0], thing[1])
+
+
 def _is_tree(book, thing):
     """Tell whether a value is a TREE of a book."""
     waiting = [thing]
     while waiting:
         part = waiting.pop()
-        if _is_end(book, part):
-            continue
-        if not isinstance(part, tuple) or len(part) != 4 or part[0] != "ask" or not is_row(book[0], part[1]):
+        if is_ask(book, part):
+            waiting.extend(part[2:])
+        elif not is_end(book, part):
             return False
-        waiting.extend(part[2:])
     return True
-
-
-def _is_end(book, thing):
-    return is_pair(thing) and thing[0] == "end" and is_index(len(book[1]), thing[1])
 
 
 def _parts_reached(tree):

@@ -30,16 +30,28 @@ def sum_by(sums, row):
 
 def dependent_lot(sums):
     """Return indexes, at least one, of sums that are () together, None if they are independent."""
-    _, lots = _eliminated(sums)
-    for lot in lots.values():
-        return lot
-    return None
+    lots = dependent_lots(sums)
+    return lots[0] if lots else None
 
 
 def independent_among(sums):
     """Return the indexes of the sums that are not OF the ones ahead of them."""
     _, lots = _eliminated(sums)
     return [index for index in range(len(sums)) if index not in lots]
+
+
+def dependent_lots(sums):
+    """Return a lot that is () together for each of the sums OF the ones ahead; all such lots are made of these."""
+    _, lots = _eliminated(sums)
+    return list(lots.values())
+
+
+def sums_from(row, others):
+    """Return the list of what a SUM and some of the independent others, perhaps none, are together."""
+    found = [row]
+    for other in others:
+        found = found + [together([one, other]) for one in found]
+    return found
 
 
 def basis_of(sums):

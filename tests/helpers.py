@@ -4,7 +4,7 @@ import copy
 import random
 from itertools import combinations, product
 
-from eithersums.errors import Broken, HasModel, NotTight, SumError, TooMany, Wrong
+from eithersums.errors import Broken, HasModel, NotFull, NotTight, SumError, TooMany, Wrong
 from eithersums.flats import halves
 
 HUGE = 10 ** 39
@@ -205,6 +205,25 @@ def is_strict_lot(book, thing):
     return thing == () and type(thing) is tuple or is_strict_row(len(book[1]), thing)
 
 
+def plain_leaves(tree, lines=()):
+    """Return the leaves of a tree, each with the lines answered on the way to it."""
+    if tree[0] == "end":
+        return [(tree[1], lines)]
+    _, row, zero, unit = tree
+    return plain_leaves(zero, lines + ((row, 0),)) + plain_leaves(unit, lines + ((row, 1),))
+
+
+def plain_is_tree(book, thing):
+    """Tell whether a value is a TREE of a book, by its words."""
+    if type(thing) is not tuple or not thing or type(thing[0]) is not str:
+        return False
+    if thing[0] == "end":
+        return len(thing) == 2 and is_strict_integer(thing[1]) and 0 <= thing[1] < len(book[1])
+    if thing[0] != "ask" or len(thing) != 4 or not is_strict_row(book[0], thing[1]):
+        return False
+    return plain_is_tree(book, thing[2]) and plain_is_tree(book, thing[3])
+
+
 def together_of(lines):
     """Return the line that lines are together."""
     return (plain_together([row for row, _ in lines]), sum(bit for _, bit in lines) % 2)
@@ -290,3 +309,137 @@ def demands_no_model(test, function, *args):
         with test.assertRaises(TooMany) as caught:
             function(book, *args)
         same(test, caught.exception.most, 4)
+
+
+def variants(value):
+    """Return values that are otherwise than a value of tuples, integers and strings, each in some place of it."""
+    found = [None, (value,), [value]]
+    if type(value) is tuple:
+        found += [list(value), value[::-1], value[:-1], value[1:], value + value[-1:], value + (0,), value + (None,), {}]
+        for at, part in enumerate(value):
+            found += [value[:at] + (other,) + value[at + 1:] for other in variants(part)]
+            found += [value[:at] + value[at + 1:], value[:at] + value[at:at + 2][::-1] + value[at + 2:]]
+    elif type(value) is int:
+        found += [value + 1, value - 1, value + 2, -1, 0, HUGE, -HUGE, True, False, str(value)]
+    elif type(value) is str:
+        found += [value + " ", " " + value, value.upper(), "", 0]
+    return [other for other in found if repr(other) != repr(value)]
+
+
+def some_left_out(seed, many, count):
+    """Return a BOOK that is apart: some clauses of a whole one, and some that miss nothing among them."""
+    source = chance(seed)
+    clauses = [clause for clause in whole_book(seed, many, count)[1] if source.random() < 0.7]
+    for _ in range(source.randrange(3)):
+        row = some_row(source, many)
+        clauses.insert(source.randrange(len(clauses) + 1), ((row, 0), (row, 1)))
+    return (many, tuple(clauses))
+
+
+def not_apart_books():
+    """Return books of some of whose misses some bits are in two, with models and without."""
+    zero, unit, ever = (((0,), 0),), (((0,), 1),), (((0,), 0), ((0,), 1))
+    found = [(0, ((), ())), (1, (zero, ever, zero)), (2, (unit, ever, zero, (((1,), 1),))), (1, ((),) * 3)]
+    return found + [(3, (zero, (), unit)), (3, (zero, zero)), crowded_book(4, 12, 24)]
+
+
+def tight_book(seed, many, most):
+    """Return a TIGHT BOOK of so many unknowns, each of its clauses with at most so many lines."""
+    source = chance(seed)
+    return (many, tuple([some_clause(source, many, most) for _ in range(many)]))
+
+
+def independent_rows(source, many):
+    """Return so many independent ROWS of so many unknowns: one for each head, mixed and in any order."""
+    rows = []
+    for unknown in range(many):
+        rows.append((unknown, *[other for other in range(unknown + 1, many) if source.random() < 0.4]))
+    for _ in range(3 * many):
+        one, other = source.randrange(many), source.randrange(many)
+        if one != other:
+            rows[one] = plain_together([rows[one], rows[other]])
+    source.shuffle(rows)
+    return rows
+
+
+def ordered_book(seed, many, most):
+    """Return a TIGHT BOOK all of whose settings are full, its clauses with at most so many lines, in any order."""
+    source = chance(seed)
+    base = independent_rows(source, many)
+    clauses = []
+    for place, row in enumerate(base):
+        lines = []
+        for _ in range(source.randrange(1, most + 1)):
+            ahead = [other for other in base[:place] if source.random() < 0.5]
+            lines.append((plain_together([row, *ahead]), source.randrange(2)))
+        clauses.append(tuple(sorted(set(lines))))
+    source.shuffle(clauses)
+    return (many, tuple(clauses))
+
+
+def tight_books():
+    """Return tight books of at most four unknowns: with an order and without, with a full setting and without."""
+    zero, ever, first = (((0,), 0),), (((0,), 0), ((0,), 1)), (((0,), 0), ((0, 1), 1))
+    both = (2, ((((0,), 0), ((0, 1), 0)), (((0, 1), 1), ((1,), 0))))
+    found = [(0, ()), (1, (zero,)), (1, (ever,)), (2, (zero, zero)), (2, (first, (((1,), 0),))), both]
+    found += [(2, (ever, ever)), (2, (ever, ((*first, ((1,), 0), ((1,), 1))))), (3, (ever, ever, (((1,), 0), ((2,), 0))))]
+    found += [tight_book(seed, 1 + seed % 4, 1 + seed % 3) for seed in range(48)]
+    found += [ordered_book(seed, 1 + seed % 4, 1 + seed % 5) for seed in range(32)]
+    return found + [ring_book(seed, 2 + seed % 3) for seed in range(9)]
+
+
+def ring_book(seed, many):
+    """Return a TIGHT BOOK with a ring of all its clauses, led to other unknowns."""
+    source = chance(seed)
+    base = independent_rows(source, many)
+    clauses = []
+    for place, row in enumerate(base):
+        other = plain_together([row, base[(place + 1) % many]])
+        clauses.append(tuple(sorted([(row, source.randrange(2)), (other, source.randrange(2))])))
+    source.shuffle(clauses)
+    return (many, tuple(clauses))
+
+
+def not_tight_books():
+    """Return books that are not tight: with a clause more or less than unknowns, or one without a line."""
+    zero, unit = (((0,), 0),), (((0,), 1),)
+    found = [(0, ((),)), (1, ()), (1, ((),)), (1, (zero, unit)), (2, (zero,)), (2, (zero, ())), (2, ((), ())), (3, ())]
+    return found + [great_book(1), (12, great_book(1)[1][:11]), (12, great_book(1)[1][:11] + ((),))]
+
+
+def all_settings(book):
+    """Return all SETTINGS of a book."""
+    return list(product(*[range(len(clause)) for clause in book[1]]))
+
+
+def plain_rows(book, setting):
+    """Return the rows of the lines of a setting."""
+    return [clause[line][0] for clause, line in zip(book[1], setting)]
+
+
+def is_plain_full(book, setting):
+    """Tell whether a setting is full: no lot of its rows is () together."""
+    return plain_rank(plain_rows(book, setting)) == len(setting)
+
+
+def demands_tight(test, *calls):
+    """Check that each call, a function and what it is passed behind the book, raises NotTight() ahead of all else."""
+    for book in not_tight_books():
+        for function, *args in calls:
+            with test.assertRaises(NotTight, msg=(book, function)):
+                function(book, *args)
+
+
+def demands_full(test, *calls):
+    """Check that each call, a function and what it is passed behind a setting, raises NotFull(lot) if it is not full."""
+    count = 0
+    for book in tight_books():
+        for setting in [one for one in all_settings(book) if not is_plain_full(book, one)][:20]:
+            for function, *args in calls:
+                with test.assertRaises(NotFull, msg=(book, function)) as caught:
+                    function(book, setting, *args)
+                lot = caught.exception.lot
+                test.assertTrue(is_strict_lot(book, lot) and lot != (), lot)
+                same(test, plain_together([plain_rows(book, setting)[index] for index in lot]), ())
+                count += 1
+    test.assertGreater(count, 100)

@@ -4,8 +4,8 @@ import unittest
 
 from eithersums.apart import left_bits, left_in, meeting, models_apart, models_from
 from eithersums.errors import NotApart
-from tests.helpers import (all_bits, bits_at, chance, crowded_book, flats_up_to, great_book, plain_holds, plain_missed,
-                           plain_models, same, some_book, some_row, steady, whole_book)
+from tests.helpers import (all_bits, bits_at, chance, flats_up_to, great_book, not_apart_books, plain_holds,
+                           plain_missed, plain_models, same, some_book, some_left_out, steady, whole_book)
 
 EVER, NEVER = (((0,), 0), ((0,), 1)), ()
 ZERO, UNIT = (((0,), 0),), (((0,), 1),)
@@ -20,16 +20,6 @@ def plain_meeting(book):
             if missed[one] & missed[other]:
                 return (one, other)
     return None
-
-
-def some_left_out(seed, many, count):
-    """Return a BOOK that is apart: some clauses of a whole one, and some that miss nothing among them."""
-    source = chance(seed)
-    clauses = [clause for clause in whole_book(seed, many, count)[1] if source.random() < 0.7]
-    for _ in range(source.randrange(3)):
-        row = some_row(source, many)
-        clauses.insert(source.randrange(len(clauses) + 1), ((row, 0), (row, 1)))
-    return (many, tuple(clauses))
 
 
 def apart_books():
@@ -107,8 +97,7 @@ class TestApart(unittest.TestCase):
 
 class TestErrors(unittest.TestCase):
     def test_not_apart(self):
-        for book in ((0, ((), ())), (1, (ZERO, EVER, ZERO)), (2, (UNIT, EVER, ZERO, (((1,), 1),))), crowded_book(4, 12, 24),
-                     (1, (NEVER,) * 3), (3, (ZERO, NEVER, UNIT))):
+        for book in not_apart_books():
             wanted = plain_meeting(book) if book[0] < 12 else meeting(book)
             for function, *args in ((models_apart,), (left_in, ()), (left_bits,), (models_from, (), 3), (models_from, (), 0)):
                 with self.assertRaises(NotApart) as caught:

@@ -6,18 +6,11 @@ from fractions import Fraction
 from eithersums.asks import best_tree, fewest_asks, finds, height_of, leaves_of, mean_asks, mean_of, mean_tree, paper_by
 from eithersums.papers import refutes
 from tests.helpers import (HUGE, all_bits, any_values, bits_at, books_with_a_model, chance, crowded_book,
-                           demands_no_model, is_strict_integer, is_strict_row, plain_holds, plain_keeps, plain_missed, same,
+                           demands_no_model, plain_holds, plain_is_tree, plain_keeps, plain_leaves, plain_missed, same,
                            small_books_without, some_row, steady, sums_of, whole_book)
 
 BOOK = (2, ((((0,), 1), ((1,), 1)), (((0,), 0),), (((0,), 1), ((1,), 0))))
 TREE = ("ask", (0,), ("ask", (1,), ("end", 0), ("end", 2)), ("end", 1))
-
-
-def plain_leaves(tree, lines=()):
-    if tree[0] == "end":
-        return [(tree[1], lines)]
-    _, row, zero, unit = tree
-    return plain_leaves(zero, lines + ((row, 0),)) + plain_leaves(unit, lines + ((row, 1),))
 
 
 def plain_height(tree):
@@ -26,16 +19,6 @@ def plain_height(tree):
 
 def parts_many(tree):
     return 1 if tree[0] == "end" else 1 + parts_many(tree[2]) + parts_many(tree[3])
-
-
-def plain_is_tree(book, thing):
-    if type(thing) is not tuple or not thing or type(thing[0]) is not str:
-        return False
-    if thing[0] == "end":
-        return len(thing) == 2 and is_strict_integer(thing[1]) and 0 <= thing[1] < len(book[1])
-    if thing[0] != "ask" or len(thing) != 4 or not is_strict_row(book[0], thing[1]):
-        return False
-    return plain_is_tree(book, thing[2]) and plain_is_tree(book, thing[3])
 
 
 def plain_finds(book, thing):

@@ -115,18 +115,46 @@ STAGE_6 = r"""
 [((0,), (((0, 1), 0),)), ((), ())]
 """
 
-# Of stage 7 the lines that concern eithersums.apart.
 STAGE_7 = r"""
 >>> from eithersums.apart import left_bits, left_in, meeting, models_from, models_apart
+>>> from eithersums.clean import clean_rows, is_knot, is_tree_for, knot_of, parted, tree_for
 >>> one, two, three = (((0,), 0),), (((0,), 1), ((1, 2), 0)), (((0,), 1), ((1, 2), 1))
 >>> [meeting((3, (one, (((0, 1), 0),)))), models_apart((3, (one, two))), left_bits((3, (one, two)))]
 [(0, 1), 2, (0, 0, 0)]
 >>> [left_in((3, (one, two)), (((1,), 1),)), models_from((3, (one, two)), (), 5)]
 [1, [(0, 0, 0), (0, 1, 1)]]
+>>> book = (3, (one, two, three, (((0,), 0), ((0,), 1))))
+>>> [clean_rows(book, (), (0, 1, 2)), clean_rows(book, (((0,), 0),), (1, 2)), knot_of(book)]
+[[(0,)], [(1, 2)], None]
+>>> parted(book, (), (0, 1, 2), (0,))
+(((((0,), 0),), (1, 2)), ((((0,), 1),), (0,)))
+>>> tree = ("ask", (0,), ("ask", (1, 2), ("end", 2), ("end", 1)), ("end", 0))
+>>> [is_tree_for(book, tree), is_tree_for(book, ("ask", (1, 2), ("end", 2), ("end", 1))), tree_for((0, ((),)))]
+[True, False, ('end', 0)]
 >>> a, b, c = (((0,), 0), ((1,), 1)), (((1,), 0), ((2,), 1)), (((0,), 1), ((2,), 0))
 >>> odd = (3, (a, b, c, (((0,), 0), ((1,), 0), ((2,), 0)), (((0,), 1), ((1,), 1), ((2,), 1))))
->>> models_apart(odd)
-0
+>>> [models_apart(odd), clean_rows(odd, (), (0, 1, 2, 3, 4)), is_knot(odd, ((), (0, 1, 2, 3, 4))), tree_for(odd)]
+[0, [], True, None]
+"""
+
+# Of stage 8 the lines that concern eithersums.settings, orders and rings.
+STAGE_8 = r"""
+>>> from eithersums.orders import are_forms, failing_setting, flat_order, is_order
+>>> from eithersums.rings import hanging, hangs_on, is_ring, shortest_ring, turned_by
+>>> from eithersums.settings import is_full, solution_of, some_full
+>>> told = (2, ((((0,), 0), ((0, 1), 1)), (((1,), 0),)))
+>>> [flat_order(told), failing_setting(told), is_order(told, (0, 1)), are_forms(told, (1, 0), ((1,), (0,)))]
+[(1, 0), None, False, True]
+>>> [solution_of(told, (0, 0)), solution_of(told, (1, 0)), shortest_ring(told, (0, 0)), hanging(told, (0, 0), 0, 1)]
+[(0, 0), (1, 0), None, (1,)]
+>>> both = (2, ((((0,), 0), ((0, 1), 0)), (((0, 1), 1), ((1,), 0))))
+>>> [flat_order(both), failing_setting(both), hangs_on(both, (0, 1))]
+[None, (1, 0), ((1,), (0,))]
+>>> ring = shortest_ring(both, (0, 1))
+>>> [len(ring), is_ring(both, (0, 1), ring), turned_by(both, (0, 1), ring), is_full(both, (1, 0))]
+[2, True, (1, 0), False]
+>>> some_full((2, ((((0,), 0),), (((0,), 1),))))
+('few', (0, 1))
 """
 
 
@@ -159,6 +187,9 @@ class TestExamples(unittest.TestCase):
 
     def test_stage_7(self):
         self.check(STAGE_7)
+
+    def test_stage_8(self):
+        self.check(STAGE_8)
 
     def test_readme(self):
         self.check(README.read_text(encoding="utf-8"))

@@ -71,9 +71,24 @@ FUNCTIONS = {
         "meeting": "book", "models_apart": "book", "left_in": "book flat", "left_bits": "book",
         "models_from": "book flat most",
     },
+    "clean": {
+        "clean_rows": "book flat lot", "tree_for": "book", "knot_of": "book", "is_tree_for": "book thing",
+        "is_knot": "book thing", "parted": "book flat lot row",
+    },
+    "settings": {
+        "chosen_lines": "book setting", "some_full": "book", "is_full": "book setting", "solution_of": "book setting",
+    },
+    "orders": {
+        "flat_order": "book", "failing_setting": "book", "forms_of": "book order", "is_order": "book thing",
+        "are_forms": "book arrangement thing",
+    },
+    "rings": {
+        "hanging": "book setting clause line", "hangs_on": "book setting", "turned_by": "book setting ring",
+        "is_ring": "book setting thing", "shortest_ring": "book setting",
+    },
 }
 ORDER = ["errors", "forms", "sums", "books", "texts", "reader", "flats", "misses", "steps", "papers", "solver", "cores",
-         "beyond", "heart", "asks", "liars", "apart"]
+         "beyond", "heart", "asks", "liars", "apart", "clean", "settings", "orders", "rings"]
 
 
 def defined_in(module, kind):
