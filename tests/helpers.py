@@ -4,8 +4,10 @@ import copy
 import random
 from itertools import combinations, product
 
+from eithersums.desk import Desk
 from eithersums.errors import Broken, HasModel, NotFull, NotTight, SumError, TooMany, Wrong
 from eithersums.flats import halves
+from eithersums.live import Live
 
 HUGE = 10 ** 39
 
@@ -21,9 +23,10 @@ def nested(depth, inner, kind):
 def any_values():
     """Return values of all kinds that [4] names, deep and wide ones too; just a few are of a form of [2]."""
     plain = [None, True, False, 0, 1, 2, -1, HUGE, -HUGE, "", "0", "unknowns 1", "a # b\n\n ~", "0" * 3000]
-    owned = [SumError(), Wrong(0), Broken(0, [1]), NotTight()]
+    owned = [SumError(), Wrong(0), Broken(0, [1]), NotTight(), Live((1, ())), Desk("unknowns 0")]
     empty = [(), [], {}]
-    flat = [(0,), [0], {0: 0}, (True,), (False,), (None,), ("0",), ((),), [[]], (SumError(),), ({},), ([],)]
+    flat = [(0,), [0], {0: 0}, (True,), (False,), (None,), ("0",), ((),), [[]], (SumError(),), ({},), ([],),
+            (Live((0, ())),)]
     mixed = [(0, ()), (1, ((((0,), 0),),)), [1, ()], (1, []), (True, ()), (False, ()), (0, None), (0, 0), ("0", ())]
     deep = [nested(20, inner, kind) for inner in (0, None, (), []) for kind in (list, tuple, dict)]
     wide = [[0] * 6000, (0,) * 6000, tuple(range(6000)), tuple([None] * 6000), {k: [k] for k in range(2000)}]
@@ -163,12 +166,17 @@ def plain_missed(many, clause):
     return [bits for bits in all_bits(many) if not plain_keeps(clause, bits)]
 
 
-def plain_rank(sums):
-    """Return the rank of sums: what some of them are together are 2 ** rank sums."""
+def plain_span(sums):
+    """Return the set of what some of these sums, perhaps none, are together."""
     found = {()}
     for row in sums:
         found |= {plain_together([row, other]) for other in found}
-    return len(found).bit_length() - 1
+    return found
+
+
+def plain_rank(sums):
+    """Return the rank of sums: what some of them are together are 2 ** rank sums."""
+    return len(plain_span(sums)).bit_length() - 1
 
 
 def all_lots(count):
@@ -198,6 +206,34 @@ def is_strict_flat(many, thing):
     if not all(is_strict_row(many, row) and is_strict_bit(bit) for row, bit in thing):
         return False
     return list(thing) == sorted(set(thing)) and is_plain_flat(thing)
+
+
+def is_strict_line(many, thing):
+    """Tell whether a value is a LINE, by its words."""
+    return type(thing) is tuple and len(thing) == 2 and is_strict_row(many, thing[0]) and is_strict_bit(thing[1])
+
+
+def is_strict_clause(many, thing):
+    """Tell whether a value is a CLAUSE, by its words."""
+    if type(thing) is not tuple or not all(is_strict_line(many, line) for line in thing):
+        return False
+    return list(thing) == sorted(set(thing))
+
+
+def is_strict_book(thing):
+    """Tell whether a value is a BOOK, by its words."""
+    if type(thing) is not tuple or len(thing) != 2 or not is_strict_integer(thing[0]) or thing[0] < 0:
+        return False
+    return type(thing[1]) is tuple and all(is_strict_clause(thing[0], clause) for clause in thing[1])
+
+
+def is_strict_duty(many, thing):
+    """Tell whether a value is a DUTY, by its words."""
+    if type(thing) is not tuple or not thing or type(thing[0]) is not str:
+        return False
+    if thing[0] == "sure":
+        return len(thing) == 3 and is_strict_row(many, thing[1]) and is_strict_bit(thing[2])
+    return thing in (("model",), ("full",))
 
 
 def is_strict_lot(book, thing):

@@ -137,8 +137,8 @@ STAGE_7 = r"""
 [0, [], True, None]
 """
 
-# Of stage 8 the lines that concern eithersums.settings, orders and rings.
 STAGE_8 = r"""
+>>> from eithersums.odd import clause_sums, full_many, is_odd
 >>> from eithersums.orders import are_forms, failing_setting, flat_order, is_order
 >>> from eithersums.rings import hanging, hangs_on, is_ring, shortest_ring, turned_by
 >>> from eithersums.settings import is_full, solution_of, some_full
@@ -153,8 +153,38 @@ STAGE_8 = r"""
 >>> ring = shortest_ring(both, (0, 1))
 >>> [len(ring), is_ring(both, (0, 1), ring), turned_by(both, (0, 1), ring), is_full(both, (1, 0))]
 [2, True, (1, 0), False]
->>> some_full((2, ((((0,), 0),), (((0,), 1),))))
-('few', (0, 1))
+>>> [clause_sums(both), is_odd(both), full_many(both), some_full((2, ((((0,), 0),), (((0,), 1),))))]
+[((1,), (0,)), True, 3, ('few', (0, 1))]
+"""
+
+STAGE_9 = r"""
+>>> from eithersums.added import addable_rows, struck_lots
+>>> from eithersums.sure import parting_models, spread_models, sure_along, sure_bit, sure_flat
+>>> book = (2, ((((0,), 0), ((0, 1), 1)), (((1,), 1),)))
+>>> [sure_flat(book), sure_bit(book, (0,)), sure_bit(book, (1,)), parting_models(book, (0, 1))]
+[(((0,), 0), ((1,), 1)), 0, 1, None]
+>>> other = (2, ((((0,), 0), ((0, 1), 0)), (((1,), 1),)))
+>>> [sure_flat(other), sure_bit(other, (0,)), parting_models(other, (0,)), sure_along(other, (1, 0)), sure_along(book, (1, 0))]
+[(((1,), 1),), None, ((0, 1), (1, 1)), (0,), (0, 1)]
+>>> [sorted(spread_models(other)), addable_rows(other, 0), addable_rows(other, 1)]
+[[(0, 1), (1, 1)], [(0,), (0, 1)], [(1,)]]
+>>> struck_lots((2, ((((0,), 0), ((0, 1), 0)), (((0, 1), 1), ((1,), 1)))))
+[((0, 1),), ((1, 0),)]
+"""
+
+STAGE_10 = r"""
+>>> from eithersums.desk import Desk
+>>> from eithersums.live import Live
+>>> live = Live((2, ((((0, 1), 0),),)))
+>>> [live.bind(("model",)), live.bind(("sure", (0, 1), 0)), live.add((((0,), 1),)), live.answer(), live.weighs((((1,), 1),))]
+[None, None, None, ('model', (1, 1)), None]
+>>> [live.back(), live.weighs((((1,), 1),)), live.again(), live.free(1), live.duties_now(), live == live.twin()]
+[None, (0, 0), None, ('sure', (0, 1), 0), [('model',)], True]
+>>> desk = Desk("unknowns 1\nclause 0=0")
+>>> [desk.execute(line) for line in ["bind full", "add clause 0=1", "weigh clause 0=0", "free 0", "add clause 0=1", "models", "heart"]]
+[['done'], ['refused'], ['said'], ['done'], ['done'], ['none'], ['0 1']]
+>>> [desk.execute(line) for line in ["duties", "bind sure 0=0", "drop 1", "bind sure 0=0 # now", "duties"]]
+[[], ['refused'], ['done'], ['done'], ['sure 0=0']]
 """
 
 
@@ -190,6 +220,12 @@ class TestExamples(unittest.TestCase):
 
     def test_stage_8(self):
         self.check(STAGE_8)
+
+    def test_stage_9(self):
+        self.check(STAGE_9)
+
+    def test_stage_10(self):
+        self.check(STAGE_10)
 
     def test_readme(self):
         self.check(README.read_text(encoding="utf-8"))

@@ -8,8 +8,8 @@ from eithersums.books import clauses_of
 from eithersums.errors import NotKept
 from eithersums.heart import deciding_paper, heart, heart_book, is_deciding, led_on
 from tests.helpers import (HUGE, all_bits, all_lots, any_values, chance, crowded_book, full_clause, great_book,
-                           is_strict_integer, is_strict_lot, plain_keeps, plain_models, plain_rank, plain_together, same,
-                           some_book, some_clause, some_row, steady, sums_of, whole_book)
+                           is_strict_integer, is_strict_lot, plain_keeps, plain_models, plain_rank, plain_span, plain_together,
+                           same, some_book, some_clause, some_row, steady, sums_of, whole_book)
 
 EVER, NEVER = (((0,), 0), ((0,), 1)), ()
 ZERO, UNIT, BOTH = (((0,), 0),), (((0,), 1),), (((0,), 1), ((1,), 1))
@@ -28,13 +28,6 @@ def plain_heart(book):
     return tuple(sorted(set.intersection(*best)))
 
 
-def span_of(rows):
-    found = {()}
-    for row in rows:
-        found |= {plain_together([row, other]) for other in found}
-    return found
-
-
 def plain_is_deciding(book, thing):
     """Tell whether a value is a DECIDING PAPER, by its words."""
     if type(thing) is not tuple or len(thing) != 2 or not is_strict_lot(book, thing[0]) or type(thing[1]) is not dict:
@@ -46,7 +39,7 @@ def plain_is_deciding(book, thing):
         return False
     if not all(0 <= line < len(book[1][key]) for key, line in chosen.items()):
         return False
-    told = span_of(rows_of(book, lot))
+    told = plain_span(rows_of(book, lot))
     rows = [book[1][key][line][0] for key, line in chosen.items()]
     return not [1 for some in all_lots(len(rows)) if some and plain_together([rows[k] for k in some]) in told]
 

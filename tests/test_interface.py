@@ -86,9 +86,23 @@ FUNCTIONS = {
         "hanging": "book setting clause line", "hangs_on": "book setting", "turned_by": "book setting ring",
         "is_ring": "book setting thing", "shortest_ring": "book setting",
     },
+    "odd": {"clause_sums": "book", "is_odd": "book", "full_many": "book"},
+    "sure": {
+        "sure_flat": "book", "sure_bit": "book row", "parting_models": "book row", "spread_models": "book",
+        "sure_along": "book order",
+    },
+    "added": {"addable_rows": "book index", "struck_lots": "book"},
+}
+CLASSES = {
+    ("live", "Live", "book"): {
+        "__eq__": "other", "add": "clause", "drop": "index", "bind": "duty", "back": "", "again": "", "free": "index",
+        "book_now": "", "duties_now": "", "answer": "", "weighs": "clause", "twin": "",
+    },
+    ("desk", "Desk", "text"): {"execute": "line", "live": ""},
 }
 ORDER = ["errors", "forms", "sums", "books", "texts", "reader", "flats", "misses", "steps", "papers", "solver", "cores",
-         "beyond", "heart", "asks", "liars", "apart", "clean", "settings", "orders", "rings"]
+         "beyond", "heart", "asks", "liars", "apart", "clean", "settings", "orders", "rings",
+         "odd", "sure", "added", "live", "desk"]
 
 
 def defined_in(module, kind):
@@ -114,6 +128,16 @@ class TestInterface(unittest.TestCase):
                 found = list(inspect.signature(getattr(loaded, name)).parameters)
                 self.assertEqual(found, arguments.split(), (module, name))
 
+    def test_classes(self):
+        for (module, name, arguments), methods in CLASSES.items():
+            loaded = getattr(importlib.import_module(f"eithersums.{module}"), name)
+            self.assertIn(name, defined_in(module, ast.ClassDef))
+            self.assertEqual(list(inspect.signature(loaded).parameters), arguments.split(), name)
+            for method, given in methods.items():
+                self.assertIn(method, vars(loaded), name)
+                found = list(inspect.signature(vars(loaded)[method]).parameters)
+                self.assertEqual(found, ["self", *given.split()], (name, method))
+
     def test_errors(self):
         loaded = importlib.import_module("eithersums.errors")
         names = defined_in("errors", ast.ClassDef)
@@ -122,6 +146,9 @@ class TestInterface(unittest.TestCase):
             if arguments is not None:
                 found = list(inspect.signature(getattr(loaded, name)).parameters)
                 self.assertEqual(found, arguments.split(), name)
+
+    def test_all_modules(self):
+        self.assertEqual(sorted([path.stem for path in PACKAGE.glob("*.py")]), sorted([*ORDER, "__init__"]))
 
     def test_order_of_modules(self):
         for place, module in enumerate(ORDER):

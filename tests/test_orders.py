@@ -7,18 +7,11 @@ from itertools import permutations, product
 from eithersums.orders import are_forms, failing_setting, flat_order, forms_of, is_order
 from eithersums.settings import is_full
 from tests.helpers import (all_settings, any_values, chance, demands_tight, full_clause, is_plain_full, is_strict_integer,
-                           is_strict_row, ordered_book, plain_together, same, steady, sums_of, tight_books, variants)
+                           is_strict_row, ordered_book, plain_span, plain_together, same, steady, sums_of, tight_books, variants)
 
 ZERO, EVER = (((0,), 0),), (((0,), 0), ((0,), 1))
 TOLD = (2, ((((0,), 0), ((0, 1), 1)), (((1,), 0),)))
 BOTH = (2, ((((0,), 0), ((0, 1), 0)), (((0, 1), 1), ((1,), 0))))
-
-
-def span_of(rows):
-    found = {()}
-    for row in rows:
-        found |= {plain_together([row, other]) for other in found}
-    return found
 
 
 def plain_is_order(book, thing):
@@ -28,7 +21,7 @@ def plain_is_order(book, thing):
     if sorted(thing) != list(range(len(book[1]))):
         return False
     for place, index in enumerate(thing):
-        ahead = span_of([row for other in thing[:place] for row, _ in book[1][other]])
+        ahead = plain_span([row for other in thing[:place] for row, _ in book[1][other]])
         rows = [row for row, _ in book[1][index]]
         if [row for row in rows if row in ahead]:
             return False
