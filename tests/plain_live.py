@@ -40,6 +40,10 @@ class Plain:
     def now(self):
         return self.states[-1]
 
+    def history(self):
+        """Return the state, how many states back leads to, and all states, those that again leads to last."""
+        return [self.now(), len(self.states) - 1, self.states + self.taken_back[::-1]]
+
     def broken(self, book, duties):
         """Return the least index of a duty that does not hold."""
         found = [index for index, duty in enumerate(duties) if not holds_duty(book, duty)]

@@ -31,7 +31,8 @@ def plain_struck(book):
     found = []
     for size in range(len(lines) + 1):
         for lot in combinations(lines, size):
-            rest = [[part for line, part in enumerate(clause) if (index, line) not in lot] for index, clause in enumerate(book[1])]
+            rest = [[part for line, part in enumerate(clause) if (index, line) not in lot]
+                    for index, clause in enumerate(book[1])]
             if not [1 for other in found if set(other) <= set(lot)] and all(rest) and all_full((book[0], tuple(rest))):
                 found.append(lot)
     return sorted(found)
@@ -83,9 +84,12 @@ class TestStruck(unittest.TestCase):
         self.assertLessEqual({(0, False), (1, False), (1, True), (2, False), (3, False)}, set(kinds))
 
     def test_edges(self):
-        same(self, [struck_lots((0, ())), struck_lots((1, (EVER,))), struck_lots((2, (ZERO, ZERO))), struck_lots((2, (ZERO, EVER)))],
-             [[()], [()], [], []])
+        same(self, [struck_lots((0, ())), struck_lots((1, (EVER,)))], [[()], [()]])
+        same(self, [struck_lots((2, (ZERO, ZERO))), struck_lots((2, (ZERO, EVER)))], [[], []])
         same(self, struck_lots(STRUCK), [((0, 1),), ((1, 0),)])
+        # Ascending, whatever their lengths are.
+        book = (3, ((((1,), 1),), (((0, 1), 1), ((2,), 0), ((2,), 1)), (((0, 1), 1), ((0, 2), 0), ((2,), 1))))
+        same(self, struck_lots(book), [((1, 0), (2, 2)), ((1, 1), (1, 2), (2, 0)), ((2, 0), (2, 2))])
         struck_lots(STRUCK).clear()
         same(self, len(struck_lots(STRUCK)), 2)
 

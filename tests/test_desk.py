@@ -436,7 +436,7 @@ class TestBounds(unittest.TestCase):
         for seed, book in enumerate((great_book(6), whole_book(6, 12, 23), (12, great_book(7)[1][:12]))):
             source = chance(seed)
             desk, live = Desk(show_book(book)), Live(book)
-            lines = ["bind model", "bind full", "heart", "models", "book", "weigh clause 0=0 or 1=0", "drop 3", "bind model", "heart"]
+            lines = ["bind model", "bind full", "heart", "models", "book", "weigh clause 0=0 or 1=0", "drop 3", "bind model"]
             for line in lines + [some_line(source, state_of(live)) for _ in range(40)]:
                 command = plain_command(state_of(live), line)
                 if command is None:

@@ -1,6 +1,7 @@
 """The form of the package's files: what of the rules can be counted."""
 
 import ast
+import builtins
 import unittest
 from pathlib import Path
 
@@ -44,6 +45,28 @@ class TestForm(unittest.TestCase):
                     self.assertIn(node, tree.body, path)
                     self.assertEqual(node.level, 0, path)
                     self.assertIn(node.module.split(".")[0], ("eithersums", *LIBRARY), path)
+
+    def test_names_that_are_taken(self):
+        """No parameter or variable has the name of an import, a class or a builtin; nothing is imported for nothing."""
+        for path, text in files():
+            tree = ast.parse(text)
+            imported = [part.name for node in tree.body if isinstance(node, ast.ImportFrom) for part in node.names]
+            classes = [node.name for node in tree.body if isinstance(node, ast.ClassDef)]
+            nodes = list(ast.walk(tree))
+            given = [node.arg for node in nodes if isinstance(node, ast.arg)]
+            stored = [node.id for node in nodes if isinstance(node, ast.Name) and isinstance(node.ctx, ast.Store)]
+            self.assertFalse(set(given + stored) & set([*imported, *classes, *dir(builtins)]), path)
+            self.assertFalse(set(imported) - set([node.id for node in nodes if isinstance(node, ast.Name)]), path)
+
+    def test_what_does_not_go_with_own_equality(self):
+        """A class with __eq__ and a method called add: no generators, no sorting in place, no sets that are kept."""
+        barred = (ast.GeneratorExp, ast.Yield, ast.YieldFrom, ast.Set, ast.SetComp, ast.Match)
+        for path, text in files():
+            for node in ast.walk(ast.parse(text)):
+                self.assertNotIsInstance(node, barred, path)
+                self.assertFalse(isinstance(node, ast.Attribute) and node.attr == "sort", path)
+                if isinstance(node, ast.Assign) and isinstance(node.value, ast.Call):
+                    self.assertNotIn(getattr(node.value.func, "id", ""), ("set", "frozenset"), path)
 
     def test_words_left_out(self):
         barred = (ast.Global, ast.AsyncFunctionDef, ast.Await, ast.Div)

@@ -19,18 +19,26 @@ def state_of(live):
     return (live.book_now(), tuple(live.duties_now()))
 
 
+def steps_many(step):
+    """Do a step, back or again, as often as can be; return the number."""
+    count = 0
+    while True:
+        try:
+            step()
+        except Nothing:
+            return count
+        count += 1
+
+
 def history(live):
-    """Return all states of a Live: those that back leads to, that now, and those that again leads to."""
+    """Return the state of a Live, how many states back leads to, and all states, those that again leads to last."""
     twin = live.twin()
-    behind, ahead = [], []
-    for step, states in ((twin.back, behind), (twin.again, ahead)):
-        while True:
-            try:
-                step()
-            except Nothing:
-                break
-            states.append(state_of(twin))
-    return behind[::-1] + [state_of(live)] + ahead[len(behind):]
+    found = [state_of(twin), steps_many(twin.back)]
+    states = [state_of(twin)]
+    for _ in range(steps_many(twin.twin().again)):
+        twin.again()
+        states.append(state_of(twin))
+    return [*found, states]
 
 
 class TestPlain(unittest.TestCase):
@@ -87,7 +95,7 @@ class TestPlain(unittest.TestCase):
                 done[name, found] = done.get((name, found), 0) + 1
                 same(self, state_of(live), plain.now())
                 if step % 8 == 0 or not found:
-                    same(self, history(live), plain.states + plain.taken_back[::-1], (seed, step))
+                    same(self, history(live), plain.history(), (seed, step))
             self.check_questions(live, plain, source)
         for name in ("add", "drop", "bind", "back", "again"):
             self.assertGreater(min(done.get((name, True), 0), done.get((name, False), 0)), 10, done)
@@ -248,7 +256,7 @@ class TestTwin(unittest.TestCase):
         live.again()
         live.back()
         live.back()
-        same(self, [twin.book_now(), live.book_now(), len(history(twin))], [(1, (ZERO, EVER)), (1, ()), 4])
+        same(self, [twin.book_now(), live.book_now(), history(twin)[1]], [(1, (ZERO, EVER)), (1, ()), 2])
         again = live.twin()
         again.again()
         again.again()
@@ -423,8 +431,8 @@ class TestBounds(unittest.TestCase):
                         self.assertLessEqual(error.index, len(live.duties_now()))
                 if missed is not None:
                     same(self, plain_keeps(clause, missed), False)
-            while len(history(live)) > 1 and live.book_now() != book:
-                live.back()
+            steps_many(live.back)
+            same(self, state_of(live), (book, ()))
         self.assertLess(time.time() - begun, 60)
 
     def test_great_tight_books(self):
