@@ -55,7 +55,9 @@ class TestForm(unittest.TestCase):
             nodes = list(ast.walk(tree))
             given = [node.arg for node in nodes if isinstance(node, ast.arg)]
             stored = [node.id for node in nodes if isinstance(node, ast.Name) and isinstance(node.ctx, ast.Store)]
-            self.assertFalse(set(given + stored) & set([*imported, *classes, *dir(builtins)]), path)
+            # What begins with an underscore is there now and then: the examples leave a _ behind.
+            taken = [*imported, *classes, *[name for name in dir(builtins) if not name.startswith("_")]]
+            self.assertFalse(set(given + stored) & set(taken), path)
             self.assertFalse(set(imported) - set([node.id for node in nodes if isinstance(node, ast.Name)]), path)
 
     def test_what_does_not_go_with_own_equality(self):
