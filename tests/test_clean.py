@@ -264,6 +264,7 @@ class TestTrees(unittest.TestCase):
 
     def test_long_trees(self):
         """Trees of 300 asks and ends, and deep ones: fast, and without deep calls."""
+        begun = time.time()
         for book in (BOOK, whole_book(1, 12, 24)):
             tree = tree_for(book)
             for row in ((0,), (1, 2), (0, 1, 2)):
@@ -272,6 +273,7 @@ class TestTrees(unittest.TestCase):
                     for _ in range(140):
                         thing = ("ask", row, thing, ("end", 0)) if place == 2 else ("ask", row, ("end", 0), thing)
                     same(self, is_tree_for(book, thing), False)
+        self.assertLess(time.time() - begun, 10)
 
 
 class TestKnots(unittest.TestCase):
